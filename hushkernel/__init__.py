@@ -1,0 +1,1 @@
+"""Hushkernel: what the tasks of a small kernel can tell one another."""
