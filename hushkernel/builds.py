@@ -166,7 +166,7 @@ def fit_as_costs(costs):
 
 
 def fit_as_plan(counts, plan):
-    if not (is_tuple(plan, 2) and isinstance(plan[0], str)):
+    if not is_tuple(plan, 2):
         return False
     if plan[0] == "levels":
         return is_between(plan[1], 1, 8)

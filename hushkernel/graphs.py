@@ -105,10 +105,10 @@ def acts_to(rows, index):
 
 
 def first_ways(rows):
-    """For each moment of a graph but the first, the act by which it was first met, and where."""
+    """For each moment that acts lead to, the act by which it was first met, and where."""
     ways = {}
     for at, (_, behind) in enumerate(rows):
         for outside, call, index in behind:
-            if index > 0 and index not in ways:
+            if index not in ways:
                 ways[index] = (at, outside, call)
     return ways

@@ -11,7 +11,7 @@ def turn_now(kernel):
 def turn_by_slots(kernel):
     slots = kernel.rules.slots
     task, begins, fits = slots[kernel.phase % len(slots)]
-    if begins and kernel.runs != task:
+    if begins:
         change(kernel, task)
     return task if fits and kernel.is_ready(task) else None
 
@@ -34,7 +34,7 @@ def turn_by_levels(kernel):
 
 
 def change(kernel, task):
-    """Another task runs from now on."""
+    """A task runs from now on; if it ran already, nothing changes."""
     side_of = kernel.rules.side_of
     if kernel.rules.wipes and (kernel.runs is None or side_of[kernel.runs] != side_of[task]):
         kernel.cached = (None, None)

@@ -82,6 +82,7 @@ WRONG = {
         ("slots", [(0, 1)] * 5), ("slots", [(2, 1)]), ("slots", [(-1, 1)]), ("slots", [(0, 0)]), ("slots", [(0, 13)]),
         ("slots", [(True, 1)]), ("slots", [(0, True)]), ("slots", [[0, 1]]), ("slots", [(0,)]), ("slots", [(0, 1, 1)]),
         ("slots", [(0, 1), None]), ("slots",), "levels", (None, 1), ([], 1), ("slots", {}),
+        ("slot", [(0, 1)]), ("", [(0, 1)]), (None, [(0, 1)]), (["slots"], [(0, 1)]), ("Levels", 1), ("slots", "levels"),
     ],
     "outside": [
         (1, 1), (-1, 1), (0, 0), (0, 5), (True, 1), (False, 1), (0, True), [0, 1], (0,), (0, 1, 1), 0, False,

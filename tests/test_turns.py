@@ -2,6 +2,8 @@
 
 import unittest
 
+from hushkernel.moments import Moment
+
 from tests.helper import led, start
 
 PASS = ("pass",)
@@ -245,6 +247,15 @@ class TestSlots(unittest.TestCase):
         moment = led(moment, None, ("read", 0), None)[1]
         self.assertEqual(moment.lines(), [0, None])
         self.assertEqual(led(moment, PASS, None)[1].lines(), [None, None])
+
+    def test_what_runs_is_told_where_a_slot_begins_alone(self):
+        """A moment in the midst of a slot at which nobody runs, or another task."""
+        moment = led(start(plan=("slots", [(0, 3), (1, 2)])), PASS)[1]
+        for runs in (None, 1):
+            other = Moment(moment.build(), (*moment.shape()[:9], (runs, 0, 1, 1)))
+            seen, after = led(other, PASS)
+            self.assertEqual((seen, after.running()), ([(0, "yes")], (runs, 0, 1, 2)))
+            self.assertEqual(led(after, PASS, PASS)[1].running(), (1, 0, 1, 4))
 
     def test_the_last_and_the_first_row_of_one_task(self):
         changes = dict(rights=[[("read", 0)], []], lines=[0, None], wipe=True)
