@@ -83,15 +83,19 @@ class Moment:
     def veiled(self, tasks):
         if not (isinstance(tasks, list) and are_tasks(tasks, self._build.rules.task_count)):
             raise NoTasks("it is not an ascending list of tasks")
-        answers = self._shape[ANSWERS]
-        left = tuple([None if task in tasks else answer for task, answer in enumerate(answers)])
-        return Moment(self._build, put(self._shape, ANSWERS, left))
+        return Moment(self._build, veiled_shape(self._shape, tasks))
 
     def shape(self):
         return self._shape
 
     def __eq__(self, other):
         return isinstance(other, Moment) and self._build == other._build and self._shape == other._shape
+
+
+def veiled_shape(shape, tasks):
+    """The shape without the answers of some tasks."""
+    answers = tuple([None if task in tasks else answer for task, answer in enumerate(shape[ANSWERS])])
+    return put(shape, ANSWERS, answers)
 
 
 def check_task(build, task):

@@ -1,13 +1,15 @@
 """What the tests share: builds with few words, odd values, and a second kernel to hold the program against.
 
-The second kernel, Plain, is written from DOC.md alone: it is led on lists and dicts that are changed in place.
+The second kernel, Plain, is written from DOC.md alone: it is led on lists and dicts that are changed in place. So are
+the second search and the second judges, Side, which take nothing of the package but moments.
 """
 
 import copy
 from math import gcd
 
 from hushkernel.builds import Build
-from hushkernel.moments import first
+from hushkernel.live import Live
+from hushkernel.moments import Moment, first
 
 
 def some(**changes):
@@ -66,7 +68,8 @@ def odd_values():
               ("x",), (build,), ("hand", 0, ["read", 0]), ("read", {}), ([], "read"), (None,)]
     dicts = [{}, {0: 1}, {"pass": ("pass",)}, {(0, 1): [build]}]
     nested = [deep(kind, 29) for kind in ("list", "tuple", "dict")] + [("read", deep("list", 28))]
-    return [None, True, False, *numbers, *words, *lists, *tuples, *dicts, build, first(build), *nested]
+    things = [build, first(build), Live(build)]
+    return [None, True, False, *numbers, *words, *lists, *tuples, *dicts, *things, *nested]
 
 
 def lists_within(value):
@@ -445,3 +448,190 @@ def small_parts(rng):
     if parts["plan"][0] == "slots":
         parts["plan"] = ("slots", [(t % 2, min(ticks, 4)) for t, ticks in parts["plan"][1][:2]])
     return parts
+
+
+def twin_parts(rng):
+    """The parts of a build with two to four sides, and few things, for which their rights are."""
+    parts = some_parts(rng)
+    count = rng.choice([2, 3, 3, 3, 4])
+    sides = rng.sample(range(4), rng.randint(2, min(count, 4)))
+    sides += [rng.choice(sides) for _ in range(count - len(sides))]
+    parts["tasks"] = [(side, rng.choice([0, 0, 0, 1, 2])) for side in sides]
+    rng.shuffle(parts["tasks"])
+    parts["pages"] = parts["pages"][:rng.choice([0, 1, 1, 2])]
+    parts["lines"] = parts["lines"][:len(parts["pages"])]
+    parts["ports"] = parts["ports"][:rng.choice([0, 0, 1])]
+    parts["locks"] = rng.choice([0, 0, 0, 1])
+    parts["frames"] = rng.choice([0, 0, 0, 0, 1])
+    parts["disk"] = rng.choice([0, 0, 0, 2, 3])
+    rights = all_rights(parts)
+    parts["rights"] = [sorted(rng.sample(rights, min(rng.randint(0, 3), len(rights)))) for _ in range(count)]
+    parts["costs"] = (rng.choice([1, 1, 1, 2]), rng.choice([0, 0, 1]), rng.choice([0, 0, 0, 1]))
+    parts["outside"] = None
+    if parts["ports"] and rng.random() < 0.3:
+        parts["outside"] = (rng.randrange(len(parts["ports"])), rng.randint(1, 4))
+    parts["plan"] = ("levels", rng.randint(1, 4))
+    if rng.random() < 0.8:
+        greatest = parts["costs"][0] + max(parts["costs"][1], parts["disk"] - 1)
+        rows = [(task, greatest + parts["costs"][2] + rng.choice([0, 0, 0, 1])) for task in range(count)]
+        parts["plan"] = ("slots", rows)
+    return parts
+
+
+def some_roles(rng, build):
+    """Lists of ones and of eyes, or None for the eyes."""
+    sides = build.sides()
+    ones = sorted(rng.sample(sides, rng.randint(1, max(1, len(sides) - 2))))
+    others = [side for side in sides if side not in ones]
+    eyes = None if rng.random() < 0.4 else sorted(rng.sample(others, rng.randint(1, len(others))))
+    return ones, eyes
+
+
+def letters_of(moment):
+    """What may come from outside in the next tick."""
+    outside = moment.build().outside()
+    return [None, 0, 1] if outside is not None and moment.running()[3] % outside[1] == 0 else [None]
+
+
+def later(rng, moment, ticks):
+    """The moment behind so many ticks of a random source."""
+    for _ in range(ticks):
+        letter = rng.choice(letters_of(moment))
+        moment = moment.tick(letter, rng.choice(moment.calls(letter) or [None]))[1]
+    return moment
+
+
+class Side:
+    """Two moments side by side, as [22] to [24] tell it."""
+
+    def __init__(self, build, ones, eyes=None):
+        self.side_of = [side for side, _ in build.tasks()]
+        tasks = range(len(self.side_of))
+        self.ones = [t for t in tasks if self.side_of[t] in ones]
+        self.eyes = [t for t in tasks if t not in self.ones and (eyes is None or self.side_of[t] in eyes)]
+        self.thirds = [t for t in tasks if t not in self.ones and t not in self.eyes]
+
+    def sees(self, task, moment, letter):
+        """What a task sees in the next tick: a list of its answer, or nothing."""
+        if moment.due(letter) != task:
+            return "nothing"
+        return [moment.tick(letter, ("pass",))[0][1]]
+
+    def unlike(self, tasks, loud, quiet, letter):
+        """Those of the tasks that see unlike things in the next tick."""
+        return [t for t in tasks if self.sees(t, loud, letter) != self.sees(t, quiet, letter)]
+
+    def harms(self, loud, quiet):
+        return [letter for letter in letters_of(loud) if self.unlike(self.eyes, loud, quiet, letter)]
+
+    def kind(self, loud, quiet, letter):
+        return "answer" if loud.due(letter) is not None and loud.due(letter) == quiet.due(letter) else "time"
+
+    def calls(self, loud, quiet, letter, knowing):
+        """All let calls, as tuples (loud call, quiet call), in order."""
+        mine, yours = loud.due(letter), quiet.due(letter)
+        if mine is not None and mine == yours and mine not in self.ones and mine not in knowing:
+            rest = [call for call in quiet.calls(letter) if call not in loud.calls(letter)]
+            return [(call, call) for call in loud.calls(letter) + rest]
+        mine_calls = [None] if mine is None else loud.calls(letter)
+        your_calls = [None] if yours is None else quiet.calls(letter)
+        if yours in self.ones:
+            your_calls = [("pass",)]
+        return [(one, other) for one in mine_calls for other in your_calls]
+
+    def behind(self, loud, quiet, knowing):
+        """All (letter, loud call, quiet call, triple) behind a triple that is not harmed."""
+        found = []
+        for letter in letters_of(loud):
+            knows = sorted(set(knowing) | set(self.unlike(self.thirds, loud, quiet, letter)))
+            hidden = sorted(self.ones + knows)
+            for one, other in self.calls(loud, quiet, letter, knows):
+                after = (loud.tick(letter, one)[1].veiled(hidden), quiet.tick(letter, other)[1].veiled(hidden))
+                found.append((letter, one, other, (*after, tuple(knows))))
+        return found
+
+    def first(self, moment):
+        return (moment.veiled(self.ones), moment.veiled(self.ones), ())
+
+
+def key_of(triple):
+    return (triple[0].shape(), triple[1].shape(), triple[2])
+
+
+def plain_hush(moment, ones, eyes, most):
+    """As [23] tells it: ("hushed", keys), ("tells", kind, rows), or ("many",); then how many triples are not harmed."""
+    side = Side(moment.build(), ones, eyes)
+    queue = [(side.first(moment), [])]
+    keys = {key_of(queue[0][0]): True}
+    harmed = side.harms(*queue[0][0][:2])
+    if harmed:
+        return ("tells", side.kind(*queue[0][0][:2], harmed[0]), [(harmed[0], None, None)]), 0
+    for triple, rows in queue:
+        for letter, one, other, after in side.behind(*triple):
+            if key_of(after) in keys:
+                continue
+            harmed = side.harms(*after[:2])
+            way = [*rows, (letter, one, other)]
+            if harmed:
+                return ("tells", side.kind(*after[:2], harmed[0]), [*way, (harmed[0], None, None)]), len(queue)
+            if len(queue) == most:
+                return ("many",), most + 1
+            keys[key_of(after)] = True
+            queue.append((after, way))
+    return ("hushed", list(keys)), len(queue)
+
+
+def plain_closed(moment, ones, thing, eyes=None):
+    """As [24] tells `closed_fault`."""
+    side = Side(moment.build(), ones, eyes)
+    if not isinstance(thing, list) or not all(is_plain_triple(side, moment.build(), item) for item in thing):
+        return ("form",)
+    keys = [key_of(item) for item in thing]
+    if key_of(side.first(moment)) not in keys:
+        return ("first",)
+    for k, item in enumerate(thing):
+        for letter in side.harms(*item[:2]):
+            return ("harmed", k, letter)
+        for letter, one, other, after in side.behind(*item):
+            if key_of(after) not in keys:
+                return ("open", k, letter, one, other)
+    return None
+
+
+def is_plain_triple(side, build, item):
+    if not (isinstance(item, tuple) and len(item) == 3 and isinstance(item[0], Moment) and isinstance(item[1], Moment)):
+        return False
+    if not (item[0].build() == build and item[1].build() == build and item[0].running()[3] == item[1].running()[3]):
+        return False
+    if not (isinstance(item[2], tuple) and all(type(t) is int and t in side.thirds for t in item[2])):
+        return False
+    return list(item[2]) == sorted(set(item[2]))
+
+
+def plain_tells(moment, ones, thing, eyes=None, calls=None):
+    """As [24] tells `tells_fault`; `calls`: all calls of the build."""
+    side = Side(moment.build(), ones, eyes)
+    if not isinstance(thing, list) or thing == []:
+        return ("form",)
+    if not all(isinstance(row, tuple) and len(row) == 3 for row in thing):
+        return ("form",)
+    loud, quiet, knows = moment, moment, []
+    for index, (letter, one, other) in enumerate(thing):
+        if not (letter is None or type(letter) is int) or letter not in letters_of(loud):
+            return ("act", index)
+        parted = side.unlike(side.eyes, loud, quiet, letter) != []
+        if index == len(thing) - 1:
+            return None if parted else ("same",)
+        if parted:
+            return ("parted", index)
+        knows = sorted(set(knows) | set(side.unlike(side.thirds, loud, quiet, letter)))
+        mine, yours = loud.due(letter), quiet.due(letter)
+        for task, call in ((mine, one), (yours, other)):
+            if (call is None) != (task is None) or (call is not None and repr(call) not in map(repr, calls)):
+                return ("act", index)
+        if yours in side.ones and other != ("pass",):
+            return ("act", index)
+        if mine is not None and mine not in side.ones and mine not in knows and one != other:
+            return ("act", index)
+        loud, quiet = loud.tick(letter, one)[1], quiet.tick(letter, other)[1]
+    return None

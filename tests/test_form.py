@@ -165,6 +165,36 @@ class TestStatements(unittest.TestCase):
                 self.assertTrue(isinstance(node.exc, ast.Call) and isinstance(node.exc.func, ast.Name), place)
 
 
+class TestObjects(unittest.TestCase):
+    """What stands in a file once some class has an index, a length and a loop."""
+
+    def test_ends(self):
+        """A `finally` only puts names and attributes back."""
+        for node, place in nodes(ast.Try):
+            for row in node.finalbody:
+                self.assertIsInstance(row, ast.Assign, place)
+                kinds = (ast.Name, ast.Attribute, ast.Tuple, ast.Load, ast.Store)
+                for part in [*row.targets, row.value]:
+                    self.assertEqual([sub for sub in ast.walk(part) if not isinstance(sub, kinds)], [], place)
+
+    def test_lengths_and_loops(self):
+        for node, place in nodes(ast.FunctionDef):
+            if node.name in ("__len__", "__iter__"):
+                self.assertEqual([type(row) for row in node.body], [ast.Return], place)
+                self.assertEqual(node.body[0].value.func.id, "len" if node.name == "__len__" else "iter", place)
+        for node, place in nodes(ast.ClassDef):
+            own = {item.name for item in node.body if isinstance(item, ast.FunctionDef)}
+            self.assertTrue("__iter__" in own or "__getitem__" not in own, place)
+        calls = [place for node, place in nodes(ast.Call) if isinstance(node.func, ast.Name) and node.func.id == "iter"]
+        self.assertEqual(len(calls), len([node for node, _ in nodes(ast.FunctionDef) if node.name == "__iter__"]))
+
+    def test_words_and_names(self):
+        for path in FILES:
+            for word in ("(type)", "Meta", "metaclass="):
+                self.assertNotIn(word, path.read_text(encoding="utf-8"), path)
+        self.assertNotIn("keys", OWN_METHODS | OWN_ATTRIBUTES)
+
+
 class TestNames(unittest.TestCase):
     def test_bound_names(self):
         for path, tree in TREES.items():

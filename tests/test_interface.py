@@ -3,8 +3,11 @@
 import inspect
 import unittest
 
-from hushkernel import builds, graphs, moments
+from hushkernel import builds, cures, graphs, hushes, judges, live, moments
 from hushkernel.builds import Build
+from hushkernel.cures import fewest
+from hushkernel.hushes import hush, learns
+from hushkernel.live import Live
 from hushkernel.moments import Moment, first, played
 
 from tests.helper import some
@@ -14,6 +17,14 @@ FUNCTIONS = {
     graphs: {
         "graph": "(moment, *, most=500)", "watched": "(moment, watch)", "ever": "(moment, watch, *, most=500)",
     },
+    hushes: {
+        "hush": "(moment, ones, *, eyes=None, most=2000)", "hushed_sets": "(build, *, most=2000)",
+        "learns": "(build, *, most=2000)",
+    },
+    judges: {
+        "closed_fault": "(moment, ones, thing, *, eyes=None)", "tells_fault": "(moment, ones, thing, *, eyes=None)",
+    },
+    cures: {"cured": "(build, ones, names)", "fewest": "(build, ones, *, most=2000)"},
 }
 METHODS = {
     Build: {
@@ -29,6 +40,12 @@ METHODS = {
         "tick": "(self, outside=None, call=None)", "calls": "(self, outside=None)", "veiled": "(self, tasks)",
         "shape": "(self)", "__eq__": "(self, other)",
     },
+    Live: {
+        "__init__": "(self, build, *, ones=None)", "due": "(self, outside=None)", "calls": "(self, outside=None)",
+        "tick": "(self, outside=None, call=None)", "back": "(self)", "__len__": "(self)", "__getitem__": "(self, at)",
+        "__iter__": "(self)", "moment": "(self)", "twin": "(self)", "seen": "(self, task)", "twin_seen": "(self, task)",
+        "parted": "(self)", "tried": "(self, action)",
+    },
 }
 
 
@@ -42,7 +59,8 @@ class TestNames(unittest.TestCase):
                     self.assertEqual(str(inspect.signature(function)), arguments)
 
     def test_classes(self):
-        self.assertEqual((Build.__module__, Moment.__module__), (builds.__name__, moments.__name__))
+        for owner, module in ((Build, builds), (Moment, moments), (Live, live)):
+            self.assertEqual(owner.__module__, module.__name__)
         for owner, methods in METHODS.items():
             for name, arguments in methods.items():
                 with self.subTest(f"{owner.__name__}.{name}"):
@@ -67,6 +85,17 @@ class TestExamples(unittest.TestCase):
     def test_played(self):
         seen = played(first(self.build), [(None, ("read", 0)), (None, ("pass",))])[0]
         self.assertEqual(repr(seen), "[(0, None), (0, '1')]")
+
+    def test_hush(self):
+        self.assertEqual(hush(first(self.build), [1])[0], "hushed")
+        told = hush(first(self.build), [0])
+        self.assertEqual(repr((told[0], told[1], len(told[2]))), "('tells', 'answer', 5)")
+
+    def test_learns(self):
+        self.assertEqual(repr(learns(self.build)), "[(0, 1)]")
+
+    def test_fewest(self):
+        self.assertEqual(repr(fewest(self.build, [0])), "[['cut']]")
 
 
 if __name__ == "__main__":
