@@ -21,6 +21,11 @@ def is_list(thing, low, high):
     return isinstance(thing, list) and low <= len(thing) <= high
 
 
+def are_tuples(thing, many):
+    """Whether it is a list of tuples of so many items."""
+    return isinstance(thing, list) and all([is_tuple(item, many) for item in thing])
+
+
 def is_ascending(items):
     """Whether items that can be compared ascend strictly."""
     return all([low < high for low, high in zip(items, items[1:])])

@@ -1,4 +1,4 @@
-"""All ways to choose some of a few things."""
+"""All ways to choose some of a few things, and all orders of them."""
 
 
 def sublists(items):
@@ -7,3 +7,11 @@ def sublists(items):
     for item in items:
         found = found + [[*part, item] for part in found]
     return sorted(found)
+
+
+def orders(items):
+    """A tuple for each order in which a few items can stand."""
+    found = [()]
+    for item in items:
+        found = [order[:at] + (item,) + order[at:] for order in found for at in range(len(order) + 1)]
+    return found

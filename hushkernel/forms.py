@@ -30,6 +30,8 @@ CALL_FORMS = {
     "pass": (),
 }
 
+PASS = ("pass",)
+
 
 def counted(tasks, pages, ports, locks, disk):
     """How many things there are of each kind, in a build of so many tasks, pages and so on."""
@@ -64,6 +66,32 @@ def is_of_kind(counts, kind, item):
     if kind == "ticks":
         return is_between(item, 1, 2)
     return is_index(item, counts[kind])
+
+
+def all_formed(counts, word, kinds):
+    """All things that begin with a word and go on with items of these kinds."""
+    found = [(word,)]
+    for kind in kinds:
+        found = [thing + (item,) for thing in found for item in all_of_kind(counts, kind)]
+    return found
+
+
+def all_of_kind(counts, kind):
+    if kind == "right":
+        return all_rights(counts)
+    if kind == "ticks":
+        return [1, 2]
+    return list(range(counts[kind]))
+
+
+def all_rights(counts):
+    """All rights of a build, ascending."""
+    return sorted([right for word, kinds in RIGHT_FORMS.items() for right in all_formed(counts, word, kinds)])
+
+
+def all_calls(counts):
+    """All calls of a build."""
+    return [call for word, kinds in CALL_FORMS.items() for call in all_formed(counts, word, kinds)]
 
 
 def is_right(counts, thing):

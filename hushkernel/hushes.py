@@ -10,19 +10,24 @@ from hushkernel.twins import Twins
 
 def hush(moment, ones, *, eyes=None, most=2000):
     """All triples that can be come to, if the ones are hushed; otherwise by which rows they tell something."""
-    build = moment.build()
-    twins = Twins(build, roles_of(build, ones, eyes))
+    roles = roles_of(moment.build(), ones, eyes)
     check_most(most)
-    trios, ways, harms = searched(twins, moment, most)
-    if harms == []:
-        return ("hushed", [twins.triple_of(trio) for trio in trios])
-    letter = harms[0]
-    return ("tells", twins.kind(trios[-1], letter), [*rows_along(ways), (letter, None, None)])
+    return decided(moment, roles, most, "hushed")
 
 
 def check_most(most):
     if not is_between(most, 1, 5000):
         raise NoMost("it is not a bound from 1 to 5000")
+
+
+def decided(moment, roles, most, word):
+    """The word and all triples, if none of them is harmed; otherwise the rows that lead to the first harmed one."""
+    twins = Twins(moment.build(), roles)
+    trios, ways, harms = searched(twins, moment, most)
+    if harms == []:
+        return (word, [twins.triple_of(trio) for trio in trios])
+    letter = harms[0]
+    return ("tells", twins.kind(trios[-1], letter), [*rows_along(ways), (letter, None, None)])
 
 
 def searched(twins, moment, most):

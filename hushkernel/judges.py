@@ -1,18 +1,22 @@
 """Judges of what others claim: that the ones are hushed, or that they tell something."""
 
-from hushkernel.checks import are_tasks, is_tuple
-from hushkernel.forms import is_call
+from hushkernel.checks import are_tasks, are_tuples, is_tuple
+from hushkernel.forms import PASS, is_call
 from hushkernel.moments import Moment, is_letter_now
 from hushkernel.roles import roles_of
 from hushkernel.ticks import finished, letters_now, opened
-from hushkernel.twins import PASS, Twins
+from hushkernel.twins import Twins
 
 
 def closed_fault(moment, ones, thing, *, eyes=None):
     """Why a list of triples does not show that the ones are hushed, or None if it does."""
-    build = moment.build()
-    twins = Twins(build, roles_of(build, ones, eyes))
-    if not are_triples(build, twins.roles, thing):
+    return triples_fault(moment, roles_of(moment.build(), ones, eyes), thing)
+
+
+def triples_fault(moment, roles, thing):
+    """Why a list of triples is not closed, or None if it is."""
+    twins = Twins(moment.build(), roles)
+    if not are_triples(moment.build(), roles, thing):
         return ("form",)
     trios = [twins.trio_of(loud, quiet, knowing) for loud, quiet, knowing in thing]
     listed = {trio: True for trio in trios}
@@ -50,10 +54,14 @@ def is_moment_of(build, thing):
 
 def tells_fault(moment, ones, thing, *, eyes=None):
     """Why a list of rows does not show that the ones tell something, or None if it does."""
-    rules = moment.build().rules
-    roles = roles_of(moment.build(), ones, eyes)
-    if not are_rows(thing):
+    return rows_fault(moment, roles_of(moment.build(), ones, eyes), thing)
+
+
+def rows_fault(moment, roles, thing):
+    """Why a list of rows does not lead to a tick in which the eyes see unlike things, or None if it does."""
+    if not (are_tuples(thing, 3) and len(thing) > 0):
         return ("form",)
+    rules = moment.build().rules
     shapes = (moment.shape(), moment.shape())
     knowing = ()
     for index, row in enumerate(thing):
@@ -68,12 +76,10 @@ def tells_fault(moment, ones, thing, *, eyes=None):
         knowing = roles.knowing_now(knowing, loud.seen(), quiet.seen())
         if not (fits(loud, row[1]) and fits(quiet, row[2]) and are_let(roles, knowing, loud, quiet, row)):
             return ("act", index)
+        if roles.spoken(loud, row[1]) != roles.spoken(quiet, row[2]):
+            return ("spoken", index)
         shapes = (finished(loud, row[1]), finished(quiet, row[2]))
     return None
-
-
-def are_rows(thing):
-    return isinstance(thing, list) and len(thing) > 0 and all([is_tuple(row, 3) for row in thing])
 
 
 def fits(kernel, call):
@@ -82,7 +88,7 @@ def fits(kernel, call):
 
 
 def are_let(roles, knowing, loud, quiet, row):
-    """Whether the two calls of a row may stand side by side."""
-    if quiet.turn in roles.ones and row[2] != PASS:
+    """Whether the two calls of a row may stand side by side: without doors the ones only pass in the quiet kernel."""
+    if quiet.turn in roles.ones and roles.doors == () and row[2] != PASS:
         return False
     return row[1] == row[2] or not roles.is_bound(knowing, loud.seen(), quiet.seen())

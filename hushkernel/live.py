@@ -2,9 +2,9 @@
 
 from hushkernel.checks import is_index
 from hushkernel.errors import NoBack, NoOnes, NoTick
+from hushkernel.forms import PASS
 from hushkernel.moments import check_task, first
 from hushkernel.roles import roles_of
-from hushkernel.twins import PASS
 
 
 class Live:

@@ -1,20 +1,21 @@
 """Two kernels of a build side by side: where their calls lead to, and by which letters the eyes are harmed.
 
 A TRIO is a triple as it is worked with: the numbers of two shapes, in the place of moments, and the tasks that know.
+With doors, the first and the second kernel stand in the places of the loud and the quiet one.
 """
 
+from hushkernel.forms import PASS
 from hushkernel.moments import Moment, veiled_shape
 from hushkernel.ticks import finished, letters_now, opened
 from hushkernel.worth import calls_tried, worth_trying
-
-PASS = ("pass",)
 
 
 class Shapes:
     """The shapes that are met. Each has a number, since numbers are compared faster than shapes."""
 
-    def __init__(self, rules):
+    def __init__(self, rules, roles):
         self.rules = rules
+        self.roles = roles
         self.met = []
         self.numbers = {}
         self.openings = {}
@@ -57,25 +58,26 @@ class Opening:
         return number
 
     def ways_behind(self, hidden):
-        """A tuple (call, number) for each call worth trying; None is the only call without a turn.
+        """A tuple (call, number, what is spoken) for each call worth trying; None is the only call without a turn.
 
-        Of the calls that lead to one shape the first is enough: no other one puts in a trio first.
+        Of the calls that speak alike and lead to one shape the first is enough: no other one puts in a trio first.
         """
         if hidden not in self.ways:
-            numbers = {}
+            calls = {}
             for call in calls_tried(self.kernel):
-                numbers.setdefault(self.behind(call, hidden), call)
-            self.ways[hidden] = [(call, number) for number, call in numbers.items()]
+                spoken = self.shapes.roles.spoken(self.kernel, call)
+                calls.setdefault((self.behind(call, hidden), spoken), call)
+            self.ways[hidden] = [(call, number, spoken) for (number, spoken), call in calls.items()]
         return self.ways[hidden]
 
 
 class Twins:
-    """The loud and the quiet kernel, for one choice of ones and eyes."""
+    """The loud and the quiet kernel, for one choice of ones, eyes and doors."""
 
     def __init__(self, build, roles):
         self.source = build
         self.roles = roles
-        self.shapes = Shapes(build.rules)
+        self.shapes = Shapes(build.rules, roles)
 
     def trio_of(self, loud, quiet, knowing):
         return (self.shapes.number_of(loud.shape()), self.shapes.number_of(quiet.shape()), knowing)
@@ -131,14 +133,15 @@ class Twins:
         quiet_ways = self.quiet_ways(quiet, hidden)
         return [
             ((letter, loud_call, quiet_call), (loud_number, quiet_number, knowing))
-            for loud_call, loud_number in loud.ways_behind(hidden)
-            for quiet_call, quiet_number in quiet_ways
+            for loud_call, loud_number, told in loud.ways_behind(hidden)
+            for quiet_call, quiet_number, heard in quiet_ways
+            if told == heard
         ]
 
     def quiet_ways(self, quiet, hidden):
-        """As `ways_behind`, but the ones only pass in the quiet kernel."""
-        if quiet.sight is not None and quiet.sight[0] in self.roles.ones:
-            return [(PASS, quiet.behind(PASS, hidden))]
+        """As `ways_behind`, but without doors the ones only pass in the quiet kernel."""
+        if quiet.kernel.turn in self.roles.ones and self.roles.doors == ():
+            return [(PASS, quiet.behind(PASS, hidden), None)]
         return quiet.ways_behind(hidden)
 
 

@@ -545,13 +545,37 @@ class Side:
         for letter in letters_of(loud):
             knows = sorted(set(knowing) | set(self.unlike(self.thirds, loud, quiet, letter)))
             hidden = sorted(self.ones + knows)
-            for one, other in self.calls(loud, quiet, letter, knows):
-                after = (loud.tick(letter, one)[1].veiled(hidden), quiet.tick(letter, other)[1].veiled(hidden))
-                found.append((letter, one, other, (*after, tuple(knows))))
+            pairs = self.calls(loud, quiet, letter, knows)
+            loud_behind = {one: loud.tick(letter, one)[1].veiled(hidden) for one, _ in pairs}
+            quiet_behind = {other: quiet.tick(letter, other)[1].veiled(hidden) for _, other in pairs}
+            for one, other in pairs:
+                found.append((letter, one, other, (loud_behind[one], quiet_behind[other], tuple(knows))))
         return found
 
     def first(self, moment):
         return (moment.veiled(self.ones), moment.veiled(self.ones), ())
+
+
+class DoorSide(Side):
+    """Two moments side by side, as [36] to [38] tell it."""
+
+    def __init__(self, build, ones, doors, eyes=None):
+        super().__init__(build, ones, eyes)
+        self.doors = doors
+
+    def spoken(self, moment, letter, call):
+        task = moment.due(letter)
+        if task not in self.ones or call[0] not in ("send", "write") or (call[0], call[1]) not in self.doors:
+            return None
+        return call if moment.tick(letter, call)[1].answer(task) == "yes" else None
+
+    def calls(self, loud, quiet, letter, knowing):
+        mine, yours = loud.due(letter), quiet.due(letter)
+        if mine is not None and mine == yours and mine not in self.ones and mine not in knowing:
+            return super().calls(loud, quiet, letter, knowing)
+        ones = [(call, self.spoken(loud, letter, call)) for call in loud.calls(letter) or [None]]
+        others = [(call, self.spoken(quiet, letter, call)) for call in quiet.calls(letter) or [None]]
+        return [(one, other) for one, told in ones for other, heard in others if told == heard]
 
 
 def key_of(triple):
@@ -560,7 +584,15 @@ def key_of(triple):
 
 def plain_hush(moment, ones, eyes, most):
     """As [23] tells it: ("hushed", keys), ("tells", kind, rows), or ("many",); then how many triples are not harmed."""
-    side = Side(moment.build(), ones, eyes)
+    return plain_search(Side(moment.build(), ones, eyes), moment, most, "hushed")
+
+
+def plain_kept(moment, ones, doors, eyes, most):
+    """As [37] tells it; likewise."""
+    return plain_search(DoorSide(moment.build(), ones, doors, eyes), moment, most, "kept")
+
+
+def plain_search(side, moment, most, word):
     queue = [(side.first(moment), [])]
     keys = {key_of(queue[0][0]): True}
     harmed = side.harms(*queue[0][0][:2])
@@ -578,12 +610,12 @@ def plain_hush(moment, ones, eyes, most):
                 return ("many",), most + 1
             keys[key_of(after)] = True
             queue.append((after, way))
-    return ("hushed", list(keys)), len(queue)
+    return (word, list(keys)), len(queue)
 
 
-def plain_closed(moment, ones, thing, eyes=None):
-    """As [24] tells `closed_fault`."""
-    side = Side(moment.build(), ones, eyes)
+def plain_closed(moment, ones, thing, eyes=None, doors=None):
+    """As [24] tells `closed_fault`; with doors, as [38] tells `kept_fault`."""
+    side = Side(moment.build(), ones, eyes) if doors is None else DoorSide(moment.build(), ones, doors, eyes)
     if not isinstance(thing, list) or not all(is_plain_triple(side, moment.build(), item) for item in thing):
         return ("form",)
     keys = [key_of(item) for item in thing]
@@ -608,9 +640,9 @@ def is_plain_triple(side, build, item):
     return list(item[2]) == sorted(set(item[2]))
 
 
-def plain_tells(moment, ones, thing, eyes=None, calls=None):
-    """As [24] tells `tells_fault`; `calls`: all calls of the build."""
-    side = Side(moment.build(), ones, eyes)
+def plain_tells(moment, ones, thing, eyes=None, calls=None, doors=None):
+    """As [24] tells `tells_fault`; `calls`: all calls of the build. With doors, as [38] tells `beside_fault`."""
+    side = Side(moment.build(), ones, eyes) if doors is None else DoorSide(moment.build(), ones, doors, eyes)
     if not isinstance(thing, list) or thing == []:
         return ("form",)
     if not all(isinstance(row, tuple) and len(row) == 3 for row in thing):
@@ -629,9 +661,76 @@ def plain_tells(moment, ones, thing, eyes=None, calls=None):
         for task, call in ((mine, one), (yours, other)):
             if (call is None) != (task is None) or (call is not None and repr(call) not in map(repr, calls)):
                 return ("act", index)
-        if yours in side.ones and other != ("pass",):
+        if doors is None and yours in side.ones and other != ("pass",):
             return ("act", index)
         if mine is not None and mine not in side.ones and mine not in knows and one != other:
             return ("act", index)
+        if doors is not None and side.spoken(loud, letter, one) != side.spoken(quiet, letter, other):
+            return ("spoken", index)
         loud, quiet = loud.tick(letter, one)[1], quiet.tick(letter, other)[1]
     return None
+
+
+class PlainProgram:
+    """A program that a task goes through, as [29] tells it."""
+
+    def __init__(self, program):
+        self.program, self.place = program, 0
+
+    def turn(self, answer):
+        """The call of a turn in which this answer is seen."""
+        gone = 0
+        while gone < 24 and self.place < len(self.program):
+            word, *rest = self.program[self.place]
+            if word == "call":
+                self.place += 1
+                return rest[0]
+            gone += 1
+            if word == "go":
+                self.place = rest[0]
+            else:
+                self.place = rest[1] if rest[0] == answer else self.place + 1
+        return ("pass",)
+
+
+def plain_ran(moment, programs, letters, ticks):
+    """As [29] tells `ran`."""
+    programs, rest, seen = [PlainProgram(program) for program in programs], list(letters), []
+    for _ in range(ticks):
+        letter = rest.pop(0) if len(letters_of(moment)) == 3 and rest else None
+        task, call = moment.due(letter), None
+        if task is not None:
+            answer = moment.tick(letter, ("pass",))[0][1]
+            call = programs[task].turn(answer)
+        sight, moment = moment.tick(letter, call)
+        seen.append(sight)
+    return seen, moment
+
+
+def some_program(rng, calls, own=()):
+    """A program of a random source; its calls are mostly from `own`."""
+    count = rng.randint(1, 12)
+    program = []
+    for _ in range(count):
+        kind = rng.choice(["call", "call", "if", "if", "go"])
+        if kind == "call":
+            program.append(("call", rng.choice(own if own and rng.random() < 0.8 else calls)))
+        elif kind == "if":
+            program.append(("if", rng.choice([None, "yes", "yes", "no", "empty", "0", "1"]), rng.randint(0, count)))
+        else:
+            program.append(("go", rng.randint(0, count)))
+    return program
+
+
+def some_programs(rng, parts):
+    """A program for each task, mostly of calls that its rights at first are for."""
+    calls, programs = all_calls(parts), []
+    for row in parts["rights"]:
+        words = {(right[0], *right[1:]) for right in row} | {("wait", at) for word, at in row if word == "take"}
+        own = [call for call in calls if call[:2] in words or (call[0] == "seek" and ("seek", 0) in row)]
+        programs.append(some_program(rng, calls, [*own, *own, ("pass",), ("sleep", 1), ("get",)]))
+    return programs
+
+
+def some_letters(rng, many):
+    return [rng.choice([None, 0, 1]) for _ in range(many)]

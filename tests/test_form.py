@@ -54,7 +54,7 @@ def names_bound(tree):
             yield node.arg
         elif isinstance(node, (ast.FunctionDef, ast.ClassDef)):
             yield node.name
-        elif isinstance(node, ast.alias):
+        elif isinstance(node, ast.alias) or (isinstance(node, ast.ExceptHandler) and node.name):
             yield node.name
 
 

@@ -1,14 +1,16 @@
-"""[41]: names, arguments, places and the examples of the interface, for the modules that there are."""
+"""[41]: names, arguments, places and the examples of the interface."""
 
 import inspect
 import unittest
 
-from hushkernel import builds, cures, graphs, hushes, judges, live, moments
+from hushkernel import (builds, cures, doorjudges, doors, graphs, hushes, images, judges, listings, live, moments, programs, serving,
+                        sights, texts)
 from hushkernel.builds import Build
 from hushkernel.cures import fewest
 from hushkernel.hushes import hush, learns
 from hushkernel.live import Live
 from hushkernel.moments import Moment, first, played
+from hushkernel.texts import build_text, read_build
 
 from tests.helper import some
 
@@ -25,6 +27,19 @@ FUNCTIONS = {
         "closed_fault": "(moment, ones, thing, *, eyes=None)", "tells_fault": "(moment, ones, thing, *, eyes=None)",
     },
     cures: {"cured": "(build, ones, names)", "fewest": "(build, ones, *, most=2000)"},
+    programs: {"ran": "(moment, programs, letters, ticks)", "speakers": "(moment, rows, which)"},
+    sights: {"sights": "(moment, ones, programs, letters, ticks, *, most=500)"},
+    serving: {"served": "(moment, task, *, most=500)", "starves_fault": "(moment, task, thing)"},
+    texts: {"build_text": "(build)", "read_build": "(text)"},
+    listings: {"program_text": "(build, program)", "read_program": "(build, text)"},
+    images: {"moment_text": "(moment)", "read_moment": "(build, text)"},
+    doors: {
+        "kept": "(moment, ones, doors, *, eyes=None, most=2000)", "least_doors": "(build, ones, *, most=2000)",
+        "through": "(moment, ones, doors, *, eyes=None, most=2000)",
+    },
+    doorjudges: {
+        "kept_fault": "(moment, ones, doors, thing, *, eyes=None)", "beside_fault": "(moment, ones, doors, thing, *, eyes=None)",
+    },
 }
 METHODS = {
     Build: {
@@ -96,6 +111,11 @@ class TestExamples(unittest.TestCase):
 
     def test_fewest(self):
         self.assertEqual(repr(fewest(self.build, [0])), "[['cut']]")
+
+    def test_build_text(self):
+        text = "task 1 0\ntask 0 2\npage 1\nlocks 0\nframes 0\ndisk 0\ncosts 1 0 0\nslots\n  0 2\n  1 1\nright 0 read 0\nright 1 write 0"
+        self.assertEqual(build_text(self.build), text)
+        self.assertTrue(read_build(text) == self.build)
 
 
 if __name__ == "__main__":
